@@ -1,0 +1,1 @@
+"""Fitwhatever: parts made within bounds, and whether they go together."""

@@ -1,0 +1,42 @@
+"""Sums: tuples (number, factors), factors a tuple of (name, number), names rising, no number 0."""
+
+from fitwhatever.errors import NoSum
+from fitwhatever.numbers import MINUS_ONE, ZERO, plus, times
+
+
+def sum_of(number, pairs):
+    """The sum of a number and of pairs (name, number), those of one name added up."""
+    factors = {}
+    for name, factor in pairs:
+        factors[name] = plus(factors.get(name, ZERO), factor)
+    return (number, tuple([(name, factors[name]) for name in sorted(factors) if factors[name] != ZERO]))
+
+
+def sum_plus(a, b):
+    """The sum a + b."""
+    return sum_of(plus(a[0], b[0]), a[1] + b[1])
+
+
+def sum_minus(a, b):
+    """The sum a - b."""
+    return sum_plus(a, sum_times(b, MINUS_ONE))
+
+
+def sum_times(a, number):
+    """The sum with its number and its factors times a number."""
+    return sum_of(times(a[0], number), [(name, times(factor, number)) for name, factor in a[1]])
+
+
+def sum_at(a, making):
+    """The value of a sum by a making, which may have more names than the sum."""
+    value = a[0]
+    for name, factor in a[1]:
+        if name not in making:
+            raise NoSum(f"the making lacks the name {name}")
+        value = plus(value, times(factor, making[name]))
+    return value
+
+
+def sum_called(a, word):
+    """The sum with a word and a dot ahead of each name."""
+    return (a[0], tuple([(f"{word}.{name}", factor) for name, factor in a[1]]))
