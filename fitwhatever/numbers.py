@@ -13,7 +13,7 @@ def is_whole(value):
 
 
 def common_divisor(a, b):
-    """The greatest divisor of two whole numbers, b from 1 on."""
+    """The greatest divisor of two whole numbers, with the sign of b, which isn't 0."""
     while b != 0:
         rest = a % b
         a = b
@@ -23,8 +23,7 @@ def common_divisor(a, b):
 
 def lowest_terms(top, bottom):
     """The number top / bottom, of whole numbers of which bottom isn't 0."""
-    if bottom < 0:
-        return lowest_terms(-top, -bottom)
+    # The divisor has the bottom's sign, as each rest has, so the new bottom is above 0.
     divisor = common_divisor(top, bottom)
     return (top // divisor, bottom // divisor)
 

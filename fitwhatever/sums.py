@@ -3,6 +3,21 @@
 from fitwhatever.errors import NoSum
 from fitwhatever.numbers import MINUS_ONE, ZERO, plus, times
 
+NAME_SIGNS = "abcdefghijklmnopqrstuvwxyz0123456789."
+NAME_LENGTH = 30
+
+
+def is_written_in(text, signs, most):
+    """Whether a value is a text of one to most signs, all of them among the signs told."""
+    if not isinstance(text, str) or not 1 <= len(text) <= most:
+        return False
+    return all([sign in signs for sign in text])
+
+
+def is_name(text):
+    """Whether a value may be a name in a sum."""
+    return is_written_in(text, NAME_SIGNS, NAME_LENGTH)
+
 
 def sum_of(number, pairs):
     """The sum of a number and of pairs (name, number), those of one name added up."""
