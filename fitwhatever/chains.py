@@ -1,6 +1,6 @@
 """Chains: gaps that lead from a node back to it, told as tuples of their numbers."""
 
-from fitwhatever.numbers import ZERO, is_less
+from fitwhatever.numbers import ZERO, is_less, is_whole
 from fitwhatever.sums import sum_at, sum_of, sum_plus
 
 
@@ -27,6 +27,17 @@ def find_chains(gaps, path, chains):
         for k in range(path[0] + 1, len(gaps)):
             if gaps[k][0] == end:
                 find_chains(gaps, path + (k,), chains)
+
+
+def is_chain(gaps, value):
+    """Whether a value, whatever it is, is a chain of the gaps."""
+    if not isinstance(value, tuple) or len(value) == 0:
+        return False
+    if not all([is_whole(k) and 0 <= k < len(gaps) for k in value]):
+        return False
+    lows = [gaps[k][0] for k in value]
+    highs = [gaps[k][1] for k in value]
+    return highs == lows[1:] + lows[:1] and len(set(lows)) == len(lows) and value[0] == min(value)
 
 
 def chain_sum(gaps, chain):

@@ -3,6 +3,7 @@
 from fitwhatever.errors import NoNumber
 
 ZERO = (0, 1)
+ONE = (1, 1)
 MINUS_ONE = (-1, 1)
 
 

@@ -55,3 +55,8 @@ def sum_at(a, making):
 def sum_called(a, word):
     """The sum with a word and a dot ahead of each name."""
     return (a[0], tuple([(f"{word}.{name}", factor) for name, factor in a[1]]))
+
+
+def has_only(a, names):
+    """Whether all names of a sum are among names, or in a making."""
+    return all([name in names for name, factor in a[1]])

@@ -5,11 +5,13 @@ import unittest
 from fractions import Fraction
 
 from fitwhatever.assemblies import Assembly
-from fitwhatever.chains import chain_sum, chains_of, nodes_of, tight_chain
+from fitwhatever.chains import chain_sum, chains_of, is_chain, nodes_of, tight_chain
 from fitwhatever.errors import NoSum
 from fitwhatever.parts import Part
 from fitwhatever.stocks import Size, Stock
 from fitwhatever.sums import sum_at, sum_of
+from helpers import chains_by_nodes
+from helpers import is_chain as is_chain_by_words
 
 ZERO = (0, 1)
 ONE = (1, 1)
@@ -22,32 +24,11 @@ def gaps_of(ends):
     return [(("x", low), ("x", high), EMPTY) for low, high in ends]
 
 
-def is_chain(gaps, chain):
-    """Whether a tuple of numbers is a chain, by the words of point 12."""
-    lows = [gaps[k][0] for k in chain]
-    highs = [gaps[k][1] for k in chain]
-    return highs == lows[1:] + lows[:1] and len(set(lows)) == len(lows) and chain[0] == min(chain)
-
-
 def chains_by_numbers(gaps):
     """All chains, by trying all rows of numbers."""
     many = range(len(gaps))
     rows = [row for length in many for row in itertools.permutations(many, length + 1)]
-    return sorted(row for row in rows if is_chain(gaps, row))
-
-
-def chains_by_nodes(gaps):
-    """All chains, by trying all rings of nodes and all gaps between each two of a ring."""
-    nodes, told = sorted({gap[0] for gap in gaps}), []
-    for length in range(1, len(nodes) + 1):
-        for ring in itertools.permutations(nodes, length):
-            if ring[0] == min(ring):
-                choices = [[k for k, gap in enumerate(gaps) if gap[:2] == (low, high)]
-                           for low, high in zip(ring, ring[1:] + ring[:1])]
-                for chain in itertools.product(*choices):
-                    at = chain.index(min(chain))
-                    told.append(chain[at:] + chain[:at])
-    return sorted(told)
+    return sorted(row for row in rows if is_chain_by_words(gaps, row))
 
 
 def random_gaps(chance, many, nodes):
@@ -113,13 +94,31 @@ class ChainsTest(unittest.TestCase):
         for gaps in [ring, ring[::-1], both, both[::-1]] + [random_gaps(chance, 16, NODES) for k in range(12)]:
             told = chains_of(gaps)
             self.assertEqual(told, chains_by_nodes(gaps))
-            self.assertTrue(all(is_chain(gaps, chain) for chain in told))
+            self.assertTrue(all(is_chain_by_words(gaps, chain) for chain in told))
         self.assertEqual(len(chains_of(ring)), 324)
 
     def test_kinds(self):
         told = chains_of(tuple(gaps_of(["ab", "ba"])))
         self.assertIs(type(told), list)
         self.assertIs(type(told[0]), tuple)
+
+
+class IsChainTest(unittest.TestCase):
+    def test_just_the_chains(self):
+        chance = random.Random(16)
+        for k in range(40):
+            gaps = random_gaps(chance, chance.randrange(6), NODES[:chance.randrange(1, 4)])
+            chains = chains_by_numbers(gaps)
+            many = range(-1, len(gaps) + 1)
+            for length in range(4):
+                for row in itertools.product(many, repeat=length):
+                    self.assertIs(is_chain(gaps, row), row in chains)
+
+    def test_whatever_it_is(self):
+        gaps = gaps_of(["ab", "ba"])
+        self.assertIs(is_chain(gaps, (0, 1)), True)
+        for value in ([0, 1], None, 0, "", "01", (False, True), (0, True), (0, 1.0), ("0", "1"), ((0, 1), (1, 1)), {}):
+            self.assertIs(is_chain(gaps, value), False)
 
 
 class ChainSumTest(unittest.TestCase):

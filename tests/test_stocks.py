@@ -7,17 +7,12 @@ from fractions import Fraction
 from fitwhatever.errors import NoSize, NoSum
 from fitwhatever.stocks import Size, Stock
 from fitwhatever.sums import sum_at, sum_of, sum_times
+from helpers import WAYS, number, random_making, random_stock, random_sum, room_of
 
 NINES = 10 ** 18 - 1
 ZERO = (0, 1)
-WAYS = ["fixed", "big", "small"]
 MOST_NAMES = ["a." + "9" * 28, "z" * 30, "." * 30, "0", "a", ".", "bolt.wide2"]
 NO_NAMES = ["", "z" * 31, "A", "aB", "a b", " a", "a ", "a_b", "a-b", "a\n", "\n", "a,b", "a~", None, 7, ("a",)]
-
-
-def number(fraction):
-    fraction = Fraction(fraction)
-    return (fraction.numerator, fraction.denominator)
 
 
 def fields(sizes):
@@ -27,49 +22,6 @@ def fields(sizes):
 def wide_size():
     """A size from 1 to 3 with a shift of each way."""
     return Size("wide", (1, 1), (3, 1), [("f", (1, 2), "fixed"), ("b", (1, 4), "big"), ("s", (1, 8), "small")])
-
-
-def room_of(size, shift, value):
-    """What a shift's room must be, by Python's own fractions."""
-    for name, allowance, way in size.shifts:
-        if name == shift:
-            grows = {"fixed": 0, "big": value - Fraction(*size.least), "small": Fraction(*size.most) - value}
-            return Fraction(*allowance) + grows[way]
-
-
-def random_number(chance, least, most):
-    return number(Fraction(chance.randrange(least * 6, most * 6 + 1), chance.choice([1, 2, 3, 6])))
-
-
-def random_stock(chance, most_names=5):
-    names = chance.sample("abcdefghijkl", chance.randrange(1, most_names + 1))
-    sizes = []
-    while names:
-        name = names.pop()
-        shifts = [(names.pop(), random_number(chance, 0, 2), chance.choice(WAYS))
-                  for k in range(chance.randrange(min(2, len(names)) + 1))]
-        ends = sorted(Fraction(*random_number(chance, -3, 3)) for k in range(2))
-        if chance.randrange(5) == 0:
-            ends[1] = ends[0]
-        sizes.append(Size(name, number(ends[0]), number(ends[1]), shifts))
-    return Stock(sizes)
-
-
-def random_sum(chance, stock):
-    pairs = [(name, random_number(chance, -2, 2)) for name in stock.names() if chance.randrange(4)]
-    return sum_of(random_number(chance, -3, 3), pairs)
-
-
-def random_making(chance, stock):
-    """A making that keeps the stock."""
-    making = {}
-    for size in stock.sizes():
-        least, most = Fraction(*size.least), Fraction(*size.most)
-        value = least + (most - least) * Fraction(chance.randrange(5), 4)
-        making[size.name] = number(value)
-        for shift in size.shifts:
-            making[shift[0]] = number(room_of(size, shift[0], value) * Fraction(chance.randrange(-4, 5), 4))
-    return making
 
 
 def corners_of(stock):
