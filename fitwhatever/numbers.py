@@ -22,6 +22,14 @@ def common_divisor(a, b):
     return a
 
 
+def common_bottom(numbers):
+    """The least whole number above 0 that each bottom of the numbers divides."""
+    scale = 1
+    for number in numbers:
+        scale = scale * number[1] // common_divisor(scale, number[1])
+    return scale
+
+
 def lowest_terms(top, bottom):
     """The number top / bottom, of whole numbers of which bottom isn't 0."""
     # The divisor has the bottom's sign, as each rest has, so the new bottom is above 0.

@@ -160,6 +160,11 @@ def lowest_corner(size, factors):
     return high if is_less(worth_of(high, factors), worth_of(low, factors)) else low
 
 
+def least_worth(size, factors):
+    """The least that a size and its shifts add to a sum with these factors."""
+    return worth_of(lowest_corner(size, factors), factors)
+
+
 class Stock:
     """A row of sizes, all names of sizes and shifts unlike."""
 

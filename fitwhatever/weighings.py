@@ -6,7 +6,7 @@ name of the stock its rise: of a size above its least, of a shift above its room
 
 from fitwhatever.chains import nodes_of
 from fitwhatever.errors import NoSum
-from fitwhatever.numbers import MINUS_ONE, ONE, ZERO, common_divisor, lowest_terms, minus, plus, times
+from fitwhatever.numbers import MINUS_ONE, ONE, ZERO, common_bottom, lowest_terms, minus, plus, times
 from fitwhatever.places import gap_at
 from fitwhatever.programs import negative_row, solved
 from fitwhatever.sums import sum_at, sum_minus, sum_of, sum_plus, sum_times
@@ -81,9 +81,7 @@ def whole_row(link, unknowns):
     factors = {}
     for unknown, factor in link[1]:
         factors[unknown] = plus(factors.get(unknown, ZERO), factor)
-    scale = link[0][1]
-    for factor in factors.values():
-        scale = scale * factor[1] // common_divisor(scale, factor[1])
+    scale = common_bottom([link[0]] + list(factors.values()))
     row = [times(factors.get(unknown, ZERO), (scale, 1)) for unknown in unknowns]
     return (scale, [number[0] for number in row], times(link[0], (scale, 1))[0])
 

@@ -3,10 +3,15 @@
 import itertools
 from fractions import Fraction
 
+from fitwhatever.assemblies import Assembly
+from fitwhatever.parts import Part
 from fitwhatever.stocks import Size, Stock
 from fitwhatever.sums import sum_of
 
 WAYS = ["fixed", "big", "small"]
+ZERO = (0, 1)
+ONE = (1, 1)
+HALF = (1, 2)
 
 
 def number(fraction):
@@ -106,3 +111,105 @@ def goes_together(gaps, making):
 def always_goes_together(gaps, stock):
     """Whether gaps can be kept by all makings: by all corners, where each chain has its least."""
     return all(goes_together(gaps, corner) for corner in stock.corners())
+
+
+def most_by_paths(target, gaps, making):
+    """The most of a target by one making that keeps the gaps: by the shortest way back, or None where there is none."""
+    far = {target[1]: Fraction(0)}
+    for turn in gaps:
+        for low, high, a in gaps:
+            if low in far and (high not in far or far[low] + value_at(a, making) < far[high]):
+                far[high] = far[low] + value_at(a, making)
+    return far[target[0]] + value_at(target[2], making) if target[0] in far else None
+
+
+def place(value, *pairs):
+    """A sum of a number and of pairs (name, factor)."""
+    return sum_of(number(value), [(name, number(factor)) for name, factor in pairs])
+
+
+def bar(name, least, most):
+    """A part with a left face at its frame, and a right one its width further on."""
+    part = Part(name, [Size("wide", number(least), number(most))])
+    part.put_face("left", "x", None, place(0))
+    part.put_face("right", "x", "left", place(0, ("wide", 1)))
+    return part
+
+
+def boxed(least, most):
+    """A pin of this width in a box from 4 to 5; the gaps are box to pin, and pin to box."""
+    assembly = Assembly([bar("box", 4, 5), bar("pin", least, most)])
+    assembly.within(("pin", "left"), ("pin", "right"), ("box", "left"), ("box", "right"))
+    return assembly
+
+
+def put_rows(assembly, rows):
+    for row in rows:
+        getattr(assembly, row[0])(*row[1:])
+    return assembly
+
+
+def random_assembly(chance, axes="x"):
+    """Two or three parts with up to two sizes each, a shift here and there, and up to five rows."""
+    parts, faces = [], []
+    for name in ["box", "pin", "lid"][:chance.randrange(2, 4)]:
+        sizes = []
+        for size in ["wide", "low"][:chance.randrange(3)]:
+            least = Fraction(chance.randrange(-4, 9), 2)
+            shifts = [(size + "s", HALF, chance.choice(WAYS))] if chance.randrange(3) == 0 else []
+            sizes.append(Size(size, number(least), number(least + Fraction(chance.randrange(7), 2)), shifts))
+        part = Part(name, sizes)
+        for face in "abc":
+            pairs = [(word, chance.choice([-1, 1])) for word in part.stock().names() if chance.randrange(2)]
+            axis = chance.choice(axes)
+            part.put_face(face, axis, None, place(Fraction(chance.randrange(-6, 7), 2), *pairs))
+            faces.append((axis, name, face))
+        parts.append(part)
+    rows = []
+    for k in range(chance.randrange(6)):
+        axis = chance.choice(faces)[0]
+        word, many = chance.choice([("ahead", 2), ("ahead", 2), ("lies", 2), ("within", 4)])
+        rows.append((word,) + tuple(chance.choice([face for face in faces if face[0] == axis])[1:]
+                                    for j in range(many)))
+    return put_rows(Assembly(parts), rows)
+
+
+def six_parts(room):
+    """Six parts of two names each, with sixteen gaps on both axes, each with so much room, and more in the first."""
+    parts = []
+    for name, way in zip(["a", "b", "c", "d", "e", "f"], WAYS * 2):
+        part = Part(name, [Size("wide", ONE, (2, 1), [("off", (1, 3), way)])])
+        for axis, slope in (("x", Fraction(1, 2)), ("y", Fraction(-1, 3))):
+            part.put_face("low" + axis, axis, None, place(0, ("off", 1)))
+            height = Fraction(room) * (2 if name == "a" else 1)
+            part.put_face("top" + axis, axis, "low" + axis, place(height, ("wide", slope), ("off", -1)))
+        parts.append(part)
+    rows = [("ahead", (one, "lowx"), (other, "topx")) for one, other in ["ab", "bc", "cd", "de", "ef", "fa", "ad", "be"]]
+    rows.append(("within", ("b", "lowy"), ("b", "topy"), ("a", "lowy"), ("a", "topy")))
+    rows.append(("lies", ("c", "lowy"), ("b", "topy")))
+    rows += [("ahead", (one, "lowy"), (other, "topy")) for one, other in ["cd", "de", "ec", "fa"]]
+    return put_rows(Assembly(parts), rows)
+
+
+def narrowed(chance, assembly):
+    """The assembly with each size's bounds narrower by chance."""
+    for size in assembly.stock().sizes():
+        ends = sorted(chance.randrange(5) for k in range(2))
+        least, most = Fraction(*size.least), Fraction(*size.most)
+        bounds = [number(least + (most - least) * end / 4) for end in ends]
+        assembly = assembly.with_bounds(size.name, *bounds)
+    return assembly
+
+
+def moved(chance, assembly):
+    """The assembly with each part moved by chance, along both axes, by sums of its own names."""
+    for part in assembly.parts():
+        for axis in "xy":
+            assembly = assembly.with_moved(part.name, axis, random_sum(chance, part.stock()))
+    return assembly
+
+
+def shuffled(chance, assembly):
+    """The assembly with parts and rows in another order."""
+    parts, rows = assembly.parts(), assembly.rows()
+    return put_rows(Assembly(chance.sample(parts, len(parts))), chance.sample(rows, len(rows)))

@@ -6,34 +6,16 @@ from fractions import Fraction
 from fitwhatever.assemblies import Assembly
 from fitwhatever.chains import chain_sum, chains_of, nodes_of, tight_chain
 from fitwhatever.numbers import is_less
-from fitwhatever.parts import Part
 from fitwhatever.places import least_places
-from fitwhatever.stocks import Size
 from fitwhatever.sums import sum_at, sum_of
 from fitwhatever.tables import table_of
 from fitwhatever.verdictcheck import verdict_holds
 from fitwhatever.weighings import most_of
-from helpers import always_goes_together, goes_together, number, random_making
+from helpers import (
+    HALF, ONE, ZERO, always_goes_together, bar, boxed, goes_together, number, random_assembly, random_making)
 
-ZERO = (0, 1)
-ONE = (1, 1)
-HALF = (1, 2)
 BOX, PIN = ("x", "box"), ("x", "pin")
 LONG = 10 ** 40
-
-
-def bar(name, least, most):
-    part = Part(name, [Size("wide", number(least), number(most))])
-    part.put_face("left", "x", None, (ZERO, ()))
-    part.put_face("right", "x", "left", sum_of(ZERO, [("wide", ONE)]))
-    return part
-
-
-def boxed(least, most):
-    """A pin of this width in a box from 4 to 5; the gaps are box to pin, and pin to box."""
-    assembly = Assembly([bar("box", 4, 5), bar("pin", least, most)])
-    assembly.within(("pin", "left"), ("pin", "right"), ("box", "left"), ("box", "right"))
-    return assembly
 
 
 def made(box, pin):
@@ -42,28 +24,6 @@ def made(box, pin):
 
 def link(low, high, value, *pairs):
     return (low, high, sum_of(number(value), [(name, number(factor)) for name, factor in pairs]))
-
-
-def random_assembly(chance):
-    """Two or three parts with up to two sizes each, a shift here and there, and up to five rows."""
-    parts, faces = [], []
-    for name in ["box", "pin", "lid"][:chance.randrange(2, 4)]:
-        sizes = []
-        for size in ["wide", "low"][:chance.randrange(3)]:
-            least = Fraction(chance.randrange(-4, 9), 2)
-            shifts = [(size + "s", HALF, chance.choice(["fixed", "big", "small"]))] if chance.randrange(3) == 0 else []
-            sizes.append(Size(size, number(least), number(least + Fraction(chance.randrange(7), 2)), shifts))
-        part = Part(name, sizes)
-        for face in "abc":
-            pairs = [(word, number(chance.choice([-1, 1]))) for word in part.stock().names() if chance.randrange(2)]
-            part.put_face(face, "x", None, sum_of(number(Fraction(chance.randrange(-6, 7), 2)), pairs))
-            faces.append((name, face))
-        parts.append(part)
-    assembly = Assembly(parts)
-    for k in range(chance.randrange(6)):
-        word, many = chance.choice([("ahead", 2), ("ahead", 2), ("lies", 2), ("within", 4)])
-        getattr(assembly, word)(*[chance.choice(faces) for j in range(many)])
-    return assembly
 
 
 def verdict_by_tools(assembly):
@@ -231,7 +191,7 @@ class AnyVerdictTest(VerdictTest):
                 self.assertTrue(goes_together(gaps, verdict[1]))
                 self.assertFalse(goes_together(gaps, verdict[3]))
             others.append((assembly, verdict))
-        self.assertGreater(min(words.count(word) for word in ("always", "never", "some")), 30)
+        self.assertGreater(min(words.count(word) for word in ("always", "never", "some")), 20)
         self.pass_on(chance, others)
 
     def pass_on(self, chance, others):

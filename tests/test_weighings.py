@@ -3,19 +3,16 @@ import random
 import unittest
 from fractions import Fraction
 
-from fitwhatever.assemblies import Assembly
 from fitwhatever.errors import NoFit
-from fitwhatever.parts import Part
 from fitwhatever.places import gap_at, least_places
 from fitwhatever.stocks import Size, Stock
 from fitwhatever.sums import sum_of
 from fitwhatever.weighcheck import kept_by, never_holds, weighs
 from fitwhatever.weighings import most_of
-from helpers import WAYS, goes_together, number, random_gaps, random_making, random_stock, value_at
+from helpers import (
+    ONE, WAYS, ZERO, boxed, goes_together, most_by_paths, number, random_gaps, random_making, random_stock, value_at)
 
 NINES = 10 ** 18 - 1
-ZERO = (0, 1)
-ONE = (1, 1)
 A, B, C, D = ("x", "a"), ("x", "b"), ("x", "c"), ("y", "a")
 NODES = [A, B, C, D]
 NONE = Stock([])
@@ -28,16 +25,6 @@ def link(low, high, value, *pairs):
 def wide_stock():
     """A size from 1 to 2 with a shift that grows with it, and one from -1 to 1."""
     return Stock([Size("wide", ONE, (2, 1), [("off", (1, 2), "big")]), Size("low", (-1, 1), ONE)])
-
-
-def most_by_paths(target, gaps, making):
-    """The most of a target by one making that keeps the gaps: by the shortest way back, or None where there is none."""
-    far = {target[1]: Fraction(0)}
-    for turn in gaps:
-        for low, high, a in gaps:
-            if low in far and (high not in far or far[low] + value_at(a, making) < far[high]):
-                far[high] = far[low] + value_at(a, making)
-    return far[target[0]] + value_at(target[2], making) if target[0] in far else None
 
 
 class MostOfTest(unittest.TestCase):
@@ -234,14 +221,7 @@ class MostOfTest(unittest.TestCase):
         self.assertEqual(self.told(link(A, B, 0, ("d", NINES)), gaps, stock)[0], "none")
 
     def test_of_an_assembly(self):
-        def bar(name, least, most):
-            part = Part(name, [Size("wide", number(least), number(most))])
-            part.put_face("left", "x", None, (ZERO, ()))
-            part.put_face("right", "x", "left", sum_of(ZERO, [("wide", ONE)]))
-            return part
-
-        assembly = Assembly([bar("box", 4, 5), bar("pin", 3, "9/2")])
-        assembly.within(("pin", "left"), ("pin", "right"), ("box", "left"), ("box", "right"))
+        assembly = boxed(3, "9/2")
         target = (("x", "box"), ("x", "pin"), sum_of(ZERO, []))
         told = self.most(2, target, assembly.gaps(), assembly.stock())
         self.assertEqual(told[2], {"box.wide": (5, 1), "pin.wide": (3, 1)})
