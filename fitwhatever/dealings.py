@@ -3,6 +3,7 @@
 from fitwhatever.errors import NoDealing, TooMany
 from fitwhatever.margins import broken_by, chain_sums, margins_of
 from fitwhatever.numbers import is_less, is_number, is_whole
+from fitwhatever.stocks import spread
 
 MOST_STEPS = 8
 MOST_DEALINGS = 4096
@@ -101,13 +102,7 @@ def all_dealings(menus):
     """All dealings, names rising, the lesser step first."""
     told = [{}]
     for name in sorted(menus):
-        longer = []
-        for dealing in told:
-            for k in range(len(menus[name])):
-                more = dict(dealing)
-                more[name] = k
-                longer.append(more)
-        told = longer
+        told = spread(told, [{name: k} for k in range(len(menus[name]))])
     return told
 
 

@@ -1,12 +1,17 @@
-"""Margins: how far the chains of an assembly stay from breaking, while some sizes have one or another of some bounds.
+"""Margins: how far the chains of an assembly stay from breaking, while some of its sizes are told and others aren't.
 
-All always goes together just where no chain's sum has a least below 0; and such a least is added up of what each size
-gives by itself.
+By a making all goes together just where no chain's sum is below 0, and always just where none has a least below 0; and
+such a least is added up of what each size gives by itself.
 """
 
 from fitwhatever.chains import chain_sum, chains_of
-from fitwhatever.numbers import common_bottom, plus
-from fitwhatever.stocks import least_worth, size_with_bounds
+from fitwhatever.numbers import MINUS_ONE, ZERO, common_bottom, is_less, plus
+from fitwhatever.stocks import least_worth, size_corners, size_with_bounds, spread, worth_of
+from fitwhatever.sums import sum_times
+from fitwhatever.weighings import most_of
+
+# A node for targets in which no place counts.
+NODE = ("x", "")
 
 
 def chain_sums(gaps):
@@ -24,7 +29,7 @@ def margins_of(sums, stock, bounds):
 
 
 def margin_of(a, stock, bounds):
-    """What a sum comes to at least, times a scale: (without the sizes of the bounds, what each adds by its bounds)."""
+    """The margin of a sum: what it comes to at least, (without the sizes of the bounds, what each of these adds)."""
     factors = dict(a[1])
     rest = a[0]
     worths = {}
@@ -38,7 +43,7 @@ def margin_of(a, stock, bounds):
 
 
 def whole_margin(rest, worths):
-    """A margin in whole numbers, as these are quickly added."""
+    """A margin (rest, worths by names, scale) in whole numbers, all times the scale, as these are quickly added."""
     numbers = [rest]
     for own in worths.values():
         numbers.extend(own)
@@ -46,7 +51,7 @@ def whole_margin(rest, worths):
     whole = {}
     for name, own in worths.items():
         whole[name] = [worth[0] * (scale // worth[1]) for worth in own]
-    return (rest[0] * (scale // rest[1]), whole)
+    return (rest[0] * (scale // rest[1]), whole, scale)
 
 
 def least_of(margin):
@@ -54,9 +59,49 @@ def least_of(margin):
     return margin[0] + sum([min(worths) for worths in margin[1].values()])
 
 
+def margin_at(margin, steps):
+    """What a margin comes to, times its scale, by these numbers of worths, a dict by names."""
+    return margin[0] + sum([margin[1][name][k] for name, k in steps.items()])
+
+
 def broken_by(margins, steps):
     """The first margin that is below 0 by these numbers of bounds, a dict by names; None where none is."""
     for margin in margins:
-        if margin[0] + sum([margin[1][name][k] for name, k in steps.items()]) < 0:
+        if margin_at(margin, steps) < 0:
             return margin
+    return None
+
+
+def corner_margin(a, stock):
+    """The margin of a sum of the stock's names, with what each size adds by each of its corners."""
+    factors = dict(a[1])
+    worths = {}
+    for size in stock.sizes():
+        worths[size.name] = [worth_of(corner, factors) for corner in size_corners(size)]
+    return whole_margin(a[0], worths)
+
+
+def corner_steps(stock):
+    """The stock's corners, in their order, as numbers of the corners of each size."""
+    told = [{}]
+    for size in stock.sizes():
+        told = spread(told, [{size.name: k} for k in range(len(size_corners(size)))])
+    return told
+
+
+def sum_split(a, names):
+    """The factors of a sum that are of these names, and the sum without them."""
+    own = tuple([pair for pair in a[1] if pair[0] in names])
+    return (own, (a[0], tuple([pair for pair in a[1] if pair[0] not in names])))
+
+
+def find_parting(worsts, gaps, stock):
+    """A making that keeps the gaps, and the number of a sum that is below 0 by it; None where there is none."""
+    for k, a in enumerate(worsts):
+        if is_less(stock.lowest(a), ZERO):
+            told = most_of((NODE, NODE, sum_times(a, MINUS_ONE)), gaps, stock)
+            if told[0] == "none":
+                return None
+            if is_less(ZERO, told[1]):
+                return (told[2], k)
     return None

@@ -147,10 +147,7 @@ def lowest_shifts(size, value, factors):
 
 def worth_of(making, factors):
     """What the names of a making add to a sum with these factors."""
-    worth = ZERO
-    for name, value in making.items():
-        worth = plus(worth, times(value, factors.get(name, ZERO)))
-    return worth
+    return sum_at((ZERO, tuple([(name, factors[name]) for name in making if name in factors])), making)
 
 
 def lowest_corner(size, factors):

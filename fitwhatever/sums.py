@@ -1,7 +1,7 @@
 """Sums: tuples (number, factors), factors a tuple of (name, number), names rising, no number 0."""
 
 from fitwhatever.errors import NoSum
-from fitwhatever.numbers import MINUS_ONE, ZERO, plus, times
+from fitwhatever.numbers import MINUS_ONE, ZERO, lowest_terms, plus, times
 
 NAME_SIGNS = "abcdefghijklmnopqrstuvwxyz0123456789."
 NAME_LENGTH = 30
@@ -44,12 +44,16 @@ def sum_times(a, number):
 
 def sum_at(a, making):
     """The value of a sum by a making, which may have more names than the sum."""
-    value = a[0]
+    top = a[0][0]
+    bottom = a[0][1]
+    # Lowest terms are looked for once, at the end, as they take longer than all else.
     for name, factor in a[1]:
         if name not in making:
             raise NoSum(f"the making lacks the name {name}")
-        value = plus(value, times(factor, making[name]))
-    return value
+        value = making[name]
+        top = top * factor[1] * value[1] + factor[0] * value[0] * bottom
+        bottom = bottom * factor[1] * value[1]
+    return lowest_terms(top, bottom)
 
 
 def sum_called(a, word):

@@ -1,12 +1,15 @@
 """What several files of tests share: numbers, stocks and gaps by chance, and slow searches."""
 
+import copy
 import itertools
+import unittest
 from fractions import Fraction
 
 from fitwhatever.assemblies import Assembly
 from fitwhatever.parts import Part
 from fitwhatever.stocks import Size, Stock
 from fitwhatever.sums import sum_of
+from fitwhatever.verdicts import verdict_of
 
 WAYS = ["fixed", "big", "small"]
 ZERO = (0, 1)
@@ -174,6 +177,14 @@ def random_assembly(chance, axes="x"):
     return put_rows(Assembly(parts), rows)
 
 
+def some_assembly(chance, axes="x"):
+    """One by chance that goes together by some makings alone: so it parts more often."""
+    while True:
+        assembly = random_assembly(chance, axes)
+        if verdict_of(assembly)[0] == "some":
+            return assembly
+
+
 def six_parts(room):
     """Six parts of two names each, with sixteen gaps on both axes, each with so much room, and more in the first."""
     parts = []
@@ -213,3 +224,21 @@ def shuffled(chance, assembly):
     """The assembly with parts and rows in another order."""
     parts, rows = assembly.parts(), assembly.rows()
     return put_rows(Assembly(chance.sample(parts, len(parts))), chance.sample(rows, len(rows)))
+
+
+class AssemblyTest(unittest.TestCase):
+    """A test of functions that are asked of an assembly."""
+
+    def ask(self, function, assembly, *handed):
+        """What a function tells; it changes nothing that is handed in."""
+        before = copy.deepcopy((handed, assembly.rows(), assembly.gaps(), assembly.stock().corners()))
+        told = function(assembly, *handed)
+        self.assertEqual((handed, assembly.rows(), assembly.gaps(), assembly.stock().corners()), before)
+        return told
+
+    def refused(self, error, function, *handed):
+        """The error, of just this class, with which a function refuses."""
+        with self.assertRaises(error) as caught:
+            function(*handed)
+        self.assertIs(type(caught.exception), error)
+        return caught.exception

@@ -1,4 +1,3 @@
-import copy
 import random
 import unittest
 from fractions import Fraction
@@ -10,7 +9,8 @@ from fitwhatever.parts import Part
 from fitwhatever.stocks import Size
 from fitwhatever.verdicts import verdict_of
 from helpers import (
-    HALF, ONE, ZERO, always_goes_together, boxed, moved, number, place, put_rows, random_assembly, shuffled, six_parts)
+    HALF, ONE, ZERO, AssemblyTest, always_goes_together, boxed, moved, number, place, put_rows, random_assembly, shuffled,
+    six_parts)
 
 BOX, PIN = "box.wide", "pin.wide"
 BAD_COUNTS = [0, -1, 31, 1000, True, False, None, "2", ONE, 2.0]
@@ -38,17 +38,9 @@ def shaft(least, most, play=1, factor=1):
         ("lies", ("box", "left"), ("pin", "left")), ("ahead", ("box", "right"), ("pin", "far"))])
 
 
-class BinsTest(unittest.TestCase):
-    def unchanged(self, assembly, ask, *handed):
-        before = copy.deepcopy((assembly.rows(), assembly.gaps(), assembly.stock().corners()))
-        told = ask(assembly, *handed)
-        self.assertEqual((assembly.rows(), assembly.gaps(), assembly.stock().corners()), before)
-        return told
-
-    def refused(self, ask, *handed):
-        with self.assertRaises(NoBins) as caught:
-            ask(*handed)
-        self.assertIs(type(caught.exception), NoBins)
+class BinsTest(AssemblyTest):
+    def no_bins(self, *handed):
+        self.refused(NoBins, *handed)
 
 
 class BinBoundsTest(BinsTest):
@@ -78,10 +70,10 @@ class BinBoundsTest(BinsTest):
     def test_no_bins(self):
         size = Size("a", ONE, (3, 1))
         for many in BAD_COUNTS:
-            self.refused(bin_bounds, size, many, 0)
+            self.no_bins(bin_bounds, size, many, 0)
         for many, k in [(1, 1), (1, -1), (30, 30), (30, -1), (5, 5), (5, 6), (5, True), (5, False), (5, None), (5, "1"),
                         (5, ONE), (5, 1.0)]:
-            self.refused(bin_bounds, size, many, k)
+            self.no_bins(bin_bounds, size, many, k)
 
 
 class WithBinsTest(BinsTest):
@@ -94,7 +86,7 @@ class WithBinsTest(BinsTest):
                 for handed, partner in (((), k), ((False,), k), ((True,), many - 1 - k)):
                     assembly = boxed(3, "9/2")
                     sizes = {size.name: size for size in assembly.stock().sizes()}
-                    told = self.unchanged(assembly, with_bins, BOX, PIN, many, k, *handed)
+                    told = self.ask(with_bins, assembly, BOX, PIN, many, k, *handed)
                     self.assertEqual(self.bounds(told), {BOX: bounds_by_hand(sizes[BOX], many, k),
                                                          PIN: bounds_by_hand(sizes[PIN], many, partner)})
                     self.assertEqual((told.rows(), told.gaps()), (assembly.rows(), assembly.gaps()))
@@ -117,15 +109,15 @@ class WithBinsTest(BinsTest):
 
     def test_no_bins(self):
         for many in BAD_COUNTS:
-            self.refused(with_bins, boxed(3, 4), BOX, PIN, many, 0)
+            self.no_bins(with_bins, boxed(3, 4), BOX, PIN, many, 0)
         for many, k in [(1, 1), (1, -1), (30, 30), (5, -1), (5, 5), (5, True), (5, None)]:
-            self.refused(with_bins, boxed(3, 4), BOX, PIN, many, k)
-            self.refused(with_bins, boxed(3, 4), BOX, PIN, many, k, True)
+            self.no_bins(with_bins, boxed(3, 4), BOX, PIN, many, k)
+            self.no_bins(with_bins, boxed(3, 4), BOX, PIN, many, k, True)
 
     def test_names(self):
         for one, other in bad_names():
-            self.refused(with_bins, with_shift(), one, other, 2, 1)
-            self.refused(with_bins, with_shift(), one, other, 2, 1, True)
+            self.no_bins(with_bins, with_shift(), one, other, 2, 1)
+            self.no_bins(with_bins, with_shift(), one, other, 2, 1, True)
         self.assertEqual(self.bounds(with_bins(with_shift(), "pin.low", BOX, 2, 1))["pin.low"], (HALF, ONE))
 
 
@@ -141,7 +133,7 @@ def bad_names():
 class BinsOfTest(BinsTest):
     def told(self, assembly, one, other, most, *handed):
         """The count told, each pair of it held by verdict_of, and one pair of each lesser count held against it."""
-        many = self.unchanged(assembly, bins_of, one, other, most, *handed)
+        many = self.ask(bins_of, assembly, one, other, most, *handed)
         self.assertIs(type(many), int)
         for count in range(1, many + 1):
             words = [verdict_of(with_bins(assembly, one, other, count, k, *handed))[0] for k in range(count)]
@@ -153,9 +145,9 @@ class BinsOfTest(BinsTest):
         self.assertEqual(self.told(shaft("7/2", "11/2"), BOX, PIN, 30), 4)
         self.assertEqual(self.told(shaft("7/2", "11/2"), PIN, BOX, 4), 4)
         self.assertEqual(self.told(shaft("7/2", "11/2"), PIN, BOX, 4, False), 4)
-        self.refused(bins_of, shaft("7/2", "11/2"), BOX, PIN, 3)
-        self.refused(bins_of, shaft("7/2", "11/2"), BOX, PIN, 30, True)
-        self.refused(bins_of, shaft(4, 6), BOX, PIN, 30)
+        self.no_bins(bins_of, shaft("7/2", "11/2"), BOX, PIN, 3)
+        self.no_bins(bins_of, shaft("7/2", "11/2"), BOX, PIN, 30, True)
+        self.no_bins(bins_of, shaft(4, 6), BOX, PIN, 30)
         self.assertEqual(self.told(shaft("7/2", "11/2").with_bounds(BOX, (5, 1), (5, 1)).with_bounds(
             PIN, (4, 1), (5, 1)), BOX, PIN, 30), 1)
 
@@ -169,9 +161,9 @@ class BinsOfTest(BinsTest):
                                                ("ahead", ("pin", "top"), ("pin", "c"))])
         self.assertEqual(self.told(assembly, "pin.wide", "pin.low", 30, True), 4)
         self.assertEqual(self.told(assembly, "pin.low", "pin.wide", 4, True), 4)
-        self.refused(bins_of, assembly, "pin.low", "pin.wide", 3, True)
-        self.refused(bins_of, assembly, "pin.low", "pin.wide", 30)
-        self.refused(bins_of, assembly, "pin.low", "pin.wide", 30, False)
+        self.no_bins(bins_of, assembly, "pin.low", "pin.wide", 3, True)
+        self.no_bins(bins_of, assembly, "pin.low", "pin.wide", 30)
+        self.no_bins(bins_of, assembly, "pin.low", "pin.wide", 30, False)
 
     def test_one_bin(self):
         for assembly in (boxed(3, 4), Assembly(boxed(3, 4).parts())):
@@ -189,16 +181,16 @@ class BinsOfTest(BinsTest):
             assembly = put_rows(Assembly([part]), [("ahead", ("pin", "low"), ("pin", "mid")),
                                                    ("ahead", ("pin", "mid"), ("pin", "top"))])
             if many is None:
-                self.refused(bins_of, assembly, "pin.wide", "pin.low", 30)
+                self.no_bins(bins_of, assembly, "pin.wide", "pin.low", 30)
                 continue
             self.assertEqual(self.told(assembly, "pin.wide", "pin.low", 30), many)
-            self.refused(bins_of, assembly, "pin.wide", "pin.low", many - 1)
+            self.no_bins(bins_of, assembly, "pin.wide", "pin.low", many - 1)
 
     def test_no_width(self):
         assembly = boxed(5, 5)
-        self.refused(bins_of, assembly, BOX, PIN, 30)
+        self.no_bins(bins_of, assembly, BOX, PIN, 30)
         # Bins of what is never narrower don't help.
-        self.refused(bins_of, boxed(4, 4).with_bounds(BOX, (3, 1), (3, 1)), BOX, PIN, 30)
+        self.no_bins(bins_of, boxed(4, 4).with_bounds(BOX, (3, 1), (3, 1)), BOX, PIN, 30)
         self.assertEqual(self.told(boxed(4, 4).with_bounds(BOX, (4, 1), (4, 1)), BOX, PIN, 30), 1)
 
     def test_against_all_counts(self):
@@ -228,7 +220,7 @@ class BinsOfTest(BinsTest):
         most = chance.randrange(1, 8)
         slow = self.least_count(assembly, one, other, most, turned)
         if slow is None:
-            self.refused(bins_of, assembly, one, other, most, turned)
+            self.no_bins(bins_of, assembly, one, other, most, turned)
             return None
         for told in (assembly, moved(chance, assembly), shuffled(chance, assembly)):
             self.assertEqual(bins_of(told, one, other, most, turned), slow)
@@ -259,13 +251,13 @@ class BinsOfTest(BinsTest):
 
     def test_no_bins(self):
         for most in BAD_COUNTS:
-            self.refused(bins_of, boxed(3, 4), BOX, PIN, most)
-            self.refused(bins_of, boxed(3, 4), BOX, PIN, most, True)
+            self.no_bins(bins_of, boxed(3, 4), BOX, PIN, most)
+            self.no_bins(bins_of, boxed(3, 4), BOX, PIN, most, True)
         for one, other in bad_names():
-            self.refused(bins_of, with_shift(), one, other, 30)
-            self.refused(bins_of, with_shift(), one, other, 30, True)
+            self.no_bins(bins_of, with_shift(), one, other, 30)
+            self.no_bins(bins_of, with_shift(), one, other, 30, True)
         self.assertEqual(self.told(with_shift(), "pin.low", BOX, 30), 1)
-        self.refused(bins_of, boxed(6, 7), BOX, PIN, 30)
+        self.no_bins(bins_of, boxed(6, 7), BOX, PIN, 30)
 
 
 if __name__ == "__main__":

@@ -12,8 +12,8 @@ from fitwhatever.stocks import Size
 from fitwhatever.verdicts import verdict_of
 from fitwhatever.weighcheck import kept_by, weighs
 from helpers import (
-    HALF, ONE, ZERO, bar, boxed, chain_value, goes_together, is_chain, most_by_paths, moved, number, place, put_rows,
-    random_assembly, random_making, shuffled, six_parts, value_at)
+    HALF, ONE, ZERO, AssemblyTest, bar, boxed, chain_value, goes_together, is_chain, most_by_paths, moved, number, place,
+    put_rows, random_assembly, random_making, shuffled, six_parts, value_at)
 
 BOX, PIN = ("box", "left"), ("pin", "left")
 BOX_END, PIN_END = ("box", "right"), ("pin", "right")
@@ -37,24 +37,10 @@ def two_axes():
     return put_rows(Assembly(parts), boxed(3, 4).rows())
 
 
-class ReachTest(unittest.TestCase):
-    def unchanged(self, assembly, ask):
-        before = copy.deepcopy((assembly.rows(), assembly.gaps(), assembly.stock().corners()))
-        told = ask()
-        self.assertEqual((assembly.rows(), assembly.gaps(), assembly.stock().corners()), before)
-        return told
-
-    def refused(self, error, ask, *handed):
-        with self.assertRaises(error) as caught:
-            ask(*handed)
-        self.assertIs(type(caught.exception), error)
-        return caught.exception
-
-
-class ReachOfTest(ReachTest):
+class ReachOfTest(AssemblyTest):
     def values(self, assembly, one, other):
         """The least and the most, with their papers held by the checkers and by the words of 17 and 19."""
-        told = self.unchanged(assembly, lambda: reach_of(assembly, one, other))
+        told = self.ask(reach_of, assembly, one, other)
         self.assertEqual((type(told), len(told)), (tuple, 2))
         self.hold(assembly, one, other, told[1], 1)
         self.hold(assembly, other, one, told[0], -1)
@@ -211,11 +197,9 @@ class ReachOfTest(ReachTest):
         self.assertTrue(told[1][1] and told[1][2])
 
 
-class ReachAtTest(ReachTest):
+class ReachAtTest(AssemblyTest):
     def at(self, assembly, making, one, other):
-        handed = copy.deepcopy(making)
-        told = self.unchanged(assembly, lambda: reach_at(assembly, making, one, other))
-        self.assertEqual(making, handed)
+        told = self.ask(reach_at, assembly, making, one, other)
         self.assertEqual((type(told), len(told)), (tuple, 2))
         self.assertTrue(all(end is None or end == number(Fraction(*end)) for end in told))
         return told
