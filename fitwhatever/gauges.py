@@ -87,12 +87,18 @@ def rests_by_factors(assembly, stock):
 
 def worst_sums(rests, others):
     """The chains' sums with the least that the others may give."""
-    return [(least_number([others.lowest(rest) for rest in own]), factors) for factors, own in rests.items()]
+    sums = []
+    for factors, own in rests.items():
+        sums.append((least_number([others.lowest(rest) for rest in own]), factors))
+    return sums
 
 
 def sums_by(rests, piece):
     """The chains' sums with what a piece gives, of those with the same factors the least."""
-    return [(least_number([sum_at(rest, piece) for rest in own]), factors) for factors, own in rests.items()]
+    sums = []
+    for factors, own in rests.items():
+        sums.append((least_number([sum_at(rest, piece) for rest in own]), factors))
+    return sums
 
 
 def margins_by_factors(rests, others):
